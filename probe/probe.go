@@ -1,0 +1,13 @@
+// Package probe makes texts that packages are tried with: only tests call it.
+package probe
+
+// EachText hands on all texts that are put together of at most so many pieces.
+func EachText(pieces []string, many int, do func(s string)) {
+	do("")
+	if many == 0 {
+		return
+	}
+	for _, p := range pieces {
+		EachText(pieces, many-1, func(s string) { do(p + s) })
+	}
+}
