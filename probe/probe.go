@@ -1,4 +1,4 @@
-// Package probe makes texts that packages are tried with: only tests call it.
+// Package probe makes what packages are tried with, and works out slowly what they tell: only tests call it.
 package probe
 
 // EachText hands on all texts that are put together of at most so many pieces.
