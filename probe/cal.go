@@ -21,6 +21,31 @@ func Cals() []api.Cal {
 	}
 }
 
+// Serving are calendars of each kind of ends and each shape, also with the week that was added in the middle, that serve the same years.
+func Serving(first, last int) []api.Cal {
+	l := append(Cals(),
+		api.Cal{Name: "s", Kind: api.LastR, Day: 6, Month: 9, Shape: api.PatS, Pat: [3]int{4, 4, 5}, Extra: 8, Policy: api.ShiftP},
+		api.Cal{Name: "f", Kind: api.NearR, Day: 7, Month: 12, Shape: api.FourS, Extra: 1, Policy: api.DropP},
+		api.Cal{Name: "w", Kind: api.IsoR, Day: 7, Month: 12, Shape: api.CycleS, Cycle: 1, Extra: 20, Policy: api.DropP},
+	)
+	for i := range l {
+		l[i].First, l[i].Last = first, last
+	}
+	return l
+}
+
+// EachPolicy hands on a calendar with each policy that it may have.
+func EachPolicy(c api.Cal, do func(c api.Cal)) {
+	if c.Kind == api.MonthR {
+		do(c)
+		return
+	}
+	for policy := api.FromP; policy <= api.DropP; policy++ {
+		c.Policy = policy
+		do(c)
+	}
+}
+
 // Wrong are calendars that may not be: nothing, and each that may be with one thing wrong in it.
 func Wrong() []api.Cal {
 	l := []api.Cal{{}, {Name: "a"}, Whole(api.Cal{}), Whole(api.Cal{Kind: 7})}

@@ -11,3 +11,8 @@ func EachText(pieces []string, many int, do func(s string)) {
 		EachText(pieces, many-1, func(s string) { do(p + s) })
 	}
 }
+
+// Far are numbers that some would take for n: those that have its last 32 bits, or that go around when they are added to, and the least and the greatest ones.
+func Far(n int) []int {
+	return []int{n + 1<<32, n - 1<<32, n + 1<<62, n + -1<<63, -1 << 63, -1<<63 + 1, 1<<63 - 2, 1<<63 - 1}
+}

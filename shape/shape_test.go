@@ -5,7 +5,6 @@ import (
 	"testing"
 
 	"quarterday/api"
-	"quarterday/civil"
 	"quarterday/probe"
 	"quarterday/stamp"
 )
@@ -70,53 +69,6 @@ func sum(l []int) int {
 	return all
 }
 
-// slowYear cuts a year day by day: how many weeks each period has, and its last day.
-func slowYear(c api.Cal, y int) (weeks, ends []int) {
-	from, to := probe.End(c, y-1)+1, probe.End(c, y)
-	periods := slowPeriods(c, to-from+1 == 371)
-	many, days := 0, 0
-	for day := from; day <= to; day++ {
-		if days%7 == 0 {
-			many++
-		}
-		days++
-		if c.Shape <= api.CycleS && days == 7*periods[len(ends)] || c.Shape == api.BroadS && isLastSunday(day) || c.Shape == api.MonthS && isMonthEnd(day) {
-			weeks, ends = append(weeks, many), append(ends, day)
-			many, days = 0, 0
-		}
-	}
-	return weeks, ends
-}
-
-// slowPeriods writes out how many weeks the periods have of shapes that say it.
-func slowPeriods(c api.Cal, long bool) []int {
-	var l []int
-	switch c.Shape {
-	case api.PatS:
-		l = slices.Repeat(c.Pat[:], 4)
-	case api.FourS:
-		l = of(13, 4, 0)
-	case api.CycleS:
-		l = of(52/c.Cycle, c.Cycle, 0)
-	}
-	if long && l != nil {
-		l[c.Extra-1]++
-	}
-	return l
-}
-
-func isMonthEnd(day int) bool {
-	next, e := civil.Of(day + 1)
-	return e == api.OK && next.D == 1
-}
-
-func isLastSunday(day int) bool {
-	weekday, _ := civil.Weekday(day)
-	this, _ := civil.Of(day)
-	next, _ := civil.Of(day + 7)
-	return weekday == 7 && this.M != next.M
-}
-
 // P15.1
 
 func TestWeeks(t *testing.T) {
@@ -171,7 +123,7 @@ func TestEnds(t *testing.T) {
 // TestYearsOfEachShape cuts years of 52 weeks and of 53, with each shape, each period that may have one more, and the first and the last years.
 func TestYearsOfEachShape(t *testing.T) {
 	check := func(c api.Cal, y int) {
-		weeks, ends := slowYear(c, y)
+		weeks, ends := probe.Cut(c, y)
 		checkYear(t, c, y, weeks, ends)
 	}
 	for _, rule := range []api.Cal{{Kind: api.LastR, Day: 6, Month: 9}, {Kind: api.NearR, Day: 4, Month: 12, Shift: 1}, {Kind: api.IsoR, Day: 7, Month: 12}} {
@@ -335,7 +287,7 @@ func TestEachWeek(t *testing.T) {
 // TestAnswersAreNew writes into what was told.
 func TestAnswersAreNew(t *testing.T) {
 	for _, c := range probe.Cals() {
-		weeks, ends := slowYear(c, 2023)
+		weeks, ends := probe.Cut(c, 2023)
 		l, _ := Weeks(c, 2023)
 		m, _ := Ends(c, 2023)
 		for i := range l {
