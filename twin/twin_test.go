@@ -5,7 +5,6 @@ import (
 	"testing"
 
 	"quarterday/api"
-	"quarterday/civil"
 	"quarterday/comp"
 	"quarterday/probe"
 	"quarterday/stamp"
@@ -24,88 +23,11 @@ func weeksOf(y, from, to int) []api.Unit {
 	return l
 }
 
-// slow compares units week by week, by days that are compared slowly.
-type slow struct {
-	probe.Slow
-	weekFrom map[int]api.Unit // by their first days
-}
-
-func slowly(c api.Cal) slow {
-	s := slow{probe.Slowly(c), map[int]api.Unit{}}
-	for y, f := range s.Years {
-		for i, x := range f.Units[api.WeekL] {
-			s.weekFrom[x.From] = unitOf(api.WeekL, y, i+1)
-		}
-	}
-	return s
-}
-
-// within are the weeks that begin in a span.
-func (s slow) within(x api.Span) []api.Unit {
-	var l []api.Unit
-	for day := x.From; day <= x.To; day++ {
-		if u, there := s.weekFrom[day]; there {
-			l = append(l, u)
-		}
-	}
-	return l
-}
-
-// span are the days of a unit that there is.
-func (s slow) span(u api.Unit) api.Span { return s.Years[u.Year].Units[u.Level][u.Index-1] }
-
-// weeks are those that a unit that there is is compared with, in the year t or beside it.
-func (s slow) weeks(u api.Unit, t int) ([]api.Unit, api.Errno) {
-	if t < s.Cal.First || t > s.Cal.Last {
-		return nil, api.ErrRange
-	}
-	var l []api.Unit
-	if s.Cal.Kind == api.MonthR && u.Level < api.WeekL {
-		l = s.within(s.Years[t].Units[u.Level][u.Index-1])
-	} else {
-		for _, w := range s.within(s.span(u)) {
-			other, e := s.week(u.Year, t, s.span(w).From)
-			if e == api.ErrRange {
-				return nil, e
-			}
-			if e == api.OK {
-				l = append(l, other)
-			}
-		}
-	}
-	if len(l) == 0 {
-		return nil, api.ErrGone
-	}
-	return l, api.OK
-}
-
-// week is the one with which that is compared which begins on a day of y.
-func (s slow) week(y, t, day int) (api.Unit, api.Errno) {
-	if s.Cal.Kind == api.MonthR {
-		d, _ := civil.Of(day)
-		d.Y += t - y
-		// A month that is too short has no such week.
-		other, e := civil.Day(d)
-		if e != api.OK {
-			return api.Unit{}, api.ErrGone
-		}
-		return s.weekFrom[other], api.OK
-	}
-	other, e := s.Day(y, t, day)
-	if e != api.OK {
-		return api.Unit{}, e
-	}
-	if u, there := s.weekFrom[other]; there {
-		return u, api.OK
-	}
-	return api.Unit{}, api.ErrRange
-}
-
-// runs are the spans that weeks have together.
-func (s slow) runs(l []api.Unit) []api.Span {
+// runsOf are the spans that weeks have together.
+func runsOf(s probe.Twins, l []api.Unit) []api.Span {
 	var runs []api.Span
 	for _, w := range l {
-		for day := s.span(w).From; day <= s.span(w).To; day++ {
+		for day := s.Span(w).From; day <= s.Span(w).To; day++ {
 			if n := len(runs); n > 0 && runs[n-1].To == day-1 {
 				runs[n-1].To = day
 			} else {
@@ -128,10 +50,10 @@ func checkTwin(t *testing.T, c api.Cal, u api.Unit, k int, weeks []api.Unit, run
 }
 
 // checkSlowly holds what is told of a unit that there is against the slow comparison with a year.
-func checkSlowly(t *testing.T, s slow, u api.Unit, other int) {
+func checkSlowly(t *testing.T, s probe.Twins, u api.Unit, other int) {
 	t.Helper()
-	weeks, want := s.weeks(u, other)
-	checkTwin(t, s.Cal, u, other-u.Year, weeks, s.runs(weeks), want)
+	weeks, want := s.Weeks(u, other)
+	checkTwin(t, s.Cal, u, other-u.Year, weeks, runsOf(s, weeks), want)
 }
 
 // spansOf reads days, each two of them a span.
@@ -189,7 +111,7 @@ func TestWeeksAndRuns(t *testing.T) {
 }
 
 // checkYears has all units of years, each against all years that are served, and those beside them.
-func checkYears(t *testing.T, s slow, years ...int) {
+func checkYears(t *testing.T, s probe.Twins, years ...int) {
 	t.Helper()
 	for _, y := range years {
 		for level, l := range s.Years[y].Units {
@@ -207,7 +129,7 @@ func TestEachUnit(t *testing.T) {
 	for _, x := range [][2]int{{1602, 1605}, {2018, 2024}, {9993, 9996}, {2023, 2023}, {2020, 2021}, {2022, 2023}} {
 		for _, c := range probe.Serving(x[0], x[1]) {
 			probe.EachPolicy(c, func(c api.Cal) {
-				s := slowly(c)
+				s := probe.Twinned(c)
 				checkYears(t, s, x[0], (x[0]+x[1])/2, x[1])
 			})
 		}
@@ -219,9 +141,9 @@ func TestEachCut(t *testing.T) {
 	probe.EachCut(api.Cal{Kind: api.LastR, Day: 6, Month: 9}, func(c api.Cal) {
 		c = probe.Whole(c)
 		c.First, c.Last, c.Policy = 2022, 2023, api.DropP
-		checkYears(t, slowly(c), 2022, 2023)
+		checkYears(t, probe.Twinned(c), 2022, 2023)
 		c.First, c.Last, c.Policy = 2023, 2024, 1+c.Extra%2
-		checkYears(t, slowly(c), 2023)
+		checkYears(t, probe.Twinned(c), 2023)
 	})
 }
 
@@ -229,7 +151,7 @@ func TestEachCut(t *testing.T) {
 func TestEachRule(t *testing.T) {
 	probe.EachCal(func(c api.Cal) {
 		c.First, c.Last = 2016, 2024
-		s := slowly(c)
+		s := probe.Twinned(c)
 		for _, u := range []api.Unit{unitOf(1, 2020, 1), unitOf(2, 2023, 2), unitOf(3, 2017, 1), unitOf(4, 2017, 12), unitOf(4, 2018, 5), unitOf(5, 2016, 1), unitOf(5, 2022, 25), unitOf(5, 2024, 52)} {
 			for other := c.First - 1; other <= c.Last+1; other++ {
 				checkSlowly(t, s, u, other)
@@ -242,7 +164,7 @@ func TestEachRule(t *testing.T) {
 func TestManyYears(t *testing.T) {
 	for _, x := range [][2]int{{1602, 2001}, {1850, 2249}, {9597, 9996}} {
 		for _, c := range probe.Serving(x[0], x[1]) {
-			s := slowly(c)
+			s := probe.Twinned(c)
 			for level := 1; level <= 5; level++ {
 				checkSlowly(t, s, unitOf(level, c.First, 1), c.Last)
 				checkSlowly(t, s, unitOf(level, c.Last, 1), c.First)
@@ -327,14 +249,14 @@ func checkDays(t *testing.T, c api.Cal, u api.Unit, k int) {
 // TestAnswersAreNew writes into what was told, and behind it.
 func TestAnswersAreNew(t *testing.T) {
 	for _, c := range probe.Serving(2022, 2024) {
-		s := slowly(c)
+		s := probe.Twinned(c)
 		for _, u := range []api.Unit{unitOf(1, 2023, 1), unitOf(2, 2023, 2), unitOf(4, 2022, 1), unitOf(5, 2023, 5), unitOf(5, 2024, 30)} {
-			weeks, e := s.weeks(u, u.Year)
+			weeks, e := s.Weeks(u, u.Year)
 			if e != api.OK {
 				t.Fatalf("%v: got %d", u, e)
 			}
 			for range 2 {
-				checkTwin(t, c, u, 0, weeks, s.runs(weeks), api.OK)
+				checkTwin(t, c, u, 0, weeks, runsOf(s, weeks), api.OK)
 				l, _ := twin.Weeks(c, u, 0)
 				m, _ := twin.Runs(c, u, 0)
 				for i := range l {
