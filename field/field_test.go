@@ -758,6 +758,57 @@ func TestNode(t *testing.T) {
 	}
 }
 
+// TestKeyName holds each key's name, as it is told, against the one by which the key is read.
+func TestKeyName(t *testing.T) {
+	names := []string{"end", "named", "periods", "pay", "extra", "serve", "compare"}
+	for i, want := range names {
+		if keyName(i+1) != want || number(keyNames, want) != i+1 {
+			t.Errorf("key %d: got %q, and %q is read as %d", i+1, keyName(i+1), want, number(keyNames, want))
+		}
+	}
+	if len(keyNames) != len(names) || len(readers()) != len(names) {
+		t.Errorf("got %d names and %d readers of %d keys", len(keyNames), len(readers()), len(names))
+	}
+	for _, key := range []int{least, -1, 0, 8, most} {
+		if keyName(key) != "" {
+			t.Errorf("key %d: got %q", key, keyName(key))
+		}
+	}
+}
+
+// TestNodeKeys asks, of all that keys can say, for the names of the keys that tell it, in their order, and reads them again.
+func TestNodeKeys(t *testing.T) {
+	met := map[string]int{}
+	eachCal(func(c api.Cal) {
+		c = probe.Whole(c)
+		cut := "periods"
+		if c.Cycle > 0 {
+			cut = "pay"
+		}
+		want := map[int]string{
+			api.LastR:  "end named " + cut + " extra serve compare",
+			api.NearR:  "end named " + cut + " extra serve compare",
+			api.NrfR:   "end serve compare",
+			api.BroadR: "end serve compare",
+			api.IsoR:   "end " + cut + " extra serve compare",
+			api.MonthR: "end named serve compare",
+		}[c.Kind]
+		n, e := Node(c)
+		var got []string
+		for _, k := range n.Kids {
+			got = append(got, k.Name)
+			met[k.Name]++
+		}
+		if n.Name != "calendar" || strings.Join(got, " ") != want || e != api.OK {
+			t.Fatalf("Node(%+v): got %s, %d, want keys %s", c, show(n), e, want)
+		}
+		checkRead(t, n, c, 0, api.OK)
+	})
+	if len(met) != 7 {
+		t.Errorf("got keys %v", met)
+	}
+}
+
 func TestNodeRefuses(t *testing.T) {
 	for _, c := range probe.Wrong() {
 		if n, e := Node(c); show(n) != show(api.Node{}) || e != api.ErrArg {

@@ -35,6 +35,27 @@ var (
 // number tells which of a table x is, from 1 on, or 0, if it is none of it.
 func number[T comparable](table []T, x T) int { return slices.Index(table, x) + 1 }
 
+// keyName tells a key's name. It says the names of keyNames over again, because that table is only read on the spot: none of its texts goes on into an answer.
+func keyName(key int) string {
+	switch key {
+	case endKey:
+		return "end"
+	case namedKey:
+		return "named"
+	case periodsKey:
+		return "periods"
+	case payKey:
+		return "pay"
+	case extraKey:
+		return "extra"
+	case serveKey:
+		return "serve"
+	case compareKey:
+		return "compare"
+	}
+	return ""
+}
+
 // instead tells which key stands in another one's place, 0 if none does.
 func instead(key int) int {
 	switch key {
@@ -190,7 +211,7 @@ func cutKey(c api.Cal) api.Node {
 }
 
 func key(number int, words ...api.Word) api.Node {
-	return api.Node{Name: keyNames[number-1], Words: words}
+	return api.Node{Name: keyName(number), Words: words}
 }
 
 func nameWord(s string) api.Word { return api.Word{S: s} }
